@@ -1,0 +1,1 @@
+"""Which rows a deed can reach when options are missing and lists are empty."""
