@@ -32,7 +32,7 @@ def free_spots(numbers, row):
 
 
 class Kinds:
-    """The kinds of rows of a table beside at most four numbers."""
+    """The kinds of rows of a table beside some numbers."""
 
     def __init__(self, table, numbers):
         self.numbers = tuple(sorted(set(numbers)))
