@@ -11,6 +11,11 @@ def equals(row, integer):
     return [integer == part for part in row]
 
 
+def stand(numbers, row):
+    """What says which rows are of one kind with a row: those with the same stand."""
+    return tuple([tuple(place(numbers, part)) for part in row]), tuple([tuple(equals(row, part)) for part in row])
+
+
 def stretches(numbers, room):
     """The ends of each stretch around the numbers; the open ones are cut when room integers are in them."""
     if not numbers:
@@ -29,6 +34,11 @@ def free_spots(numbers, row):
                 spots.append(spot)
                 break
     return spots
+
+
+def spots_beside(numbers, row):
+    """A list, ascending, with one integer for each way in which integers can stand beside a row and some numbers."""
+    return sorted(set([*numbers, *row, *free_spots(numbers, row)]))
 
 
 class Kinds:
@@ -51,8 +61,7 @@ class Kinds:
 
     def same(self, one, other):
         """Whether two rows are of one kind."""
-        places_agree = [place(self.numbers, part) for part in one] == [place(self.numbers, part) for part in other]
-        return places_agree and [equals(one, part) for part in one] == [equals(other, part) for part in other]
+        return stand(self.numbers, one) == stand(self.numbers, other)
 
     def alike(self, row, one, other):
         """Whether two integers are alike beside a row."""
@@ -60,4 +69,4 @@ class Kinds:
 
     def spots(self, row):
         """A list, ascending, with one integer for each way in which integers can stand beside a row."""
-        return sorted(set([*self.numbers, *row, *free_spots(self.numbers, row)]))
+        return spots_beside(self.numbers, row)
