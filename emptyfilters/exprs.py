@@ -56,8 +56,6 @@ def read_named(cursor, scope):
         return read_call(cursor, scope)
     if scope.slot(word) is not None:
         return read_relation(cursor, scope, "test")
-    if cursor.ahead() in (*SIGNS, "(", "in"):
-        cursor.fail()
     return read_variable(cursor, scope)
 
 

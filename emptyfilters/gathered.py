@@ -22,14 +22,8 @@ def node_asks(node, around):
     inside = facts[0] if kind in WALKS else around
     inner = [ask for part in parts for ask in node_asks(part, inside)]
     if kind in WALKS or kind in ("in", "list"):
-        return with_inner(Ask(kind, facts[0], node, around), inner)
+        return [Ask(kind, facts[0], node, around, len(inner) > 0), *inner]
     return inner
-
-
-def with_inner(ask, inner):
-    """A list of an ask and of those inside it."""
-    ask.is_outer = len(inner) > 0
-    return [ask, *inner]
 
 
 def step_asks(step, around):
@@ -38,7 +32,7 @@ def step_asks(step, around):
     inside = facts[0] if kind == "for" else around
     inner = [ask for block in blocks for part in block for ask in step_asks(part, inside)]
     if kind == "for":
-        return with_inner(Ask(kind, facts[0], step, around), inner)
+        return [Ask(kind, facts[0], step, around, len(inner) > 0), *inner]
     return inner if node is None else [*node_asks(node, around), *inner]
 
 
@@ -108,7 +102,7 @@ def form_of(texts):
 class Ask:
     """An ask of a list."""
 
-    def __init__(self, kind, index, node, around):
+    def __init__(self, kind, index, node, around, is_outer):
         # `for`, or the kind of its node; the node of a `for` is its step.
         self.kind = kind
         self.index = index
@@ -116,7 +110,7 @@ class Ask:
         # The list of the walk around it, or None.
         self.around = around
         # Whether asks of the other list are inside it.
-        self.is_outer = False
+        self.is_outer = is_outer
 
 
 class Gathered:

@@ -99,6 +99,15 @@ class Counts(unittest.TestCase):
         text = "for e in xs :\n  if c :\n    c = ~ c\ntake every"
         self.check([built(text, ONE)], (3,), (None,), "xs", [0, 1], [[(), (1, 1)], [(1,), (2, 3, 4)]])
 
+    def test_each_value_at_the_beginning_counts(self):
+        for block, lengths, groups in (
+            # Only from true, only from false, only from blank.
+            ("  if c :\n    c &= id = e", [0, 1], [[(), (3,), (3, 3)], [(1,), (3, 1), (1, 3)]]),
+            ("  if c :\n    c |= id = e", [0, 1], [[(), (1,), (1, 2)], [(3,), (3, 1), (1, 3)]]),
+            ("  if not c :\n    c = id = e", [0, 1, 1], [[()], [(1,), (1, 3)], [(3,), (3, 1)]]),
+        ):
+            self.check([built(f"for e in xs :\n{block}\ntake every", ONE)], (3,), (None,), "xs", lengths, groups)
+
     def test_places_where_no_run_comes(self):
         text = "if me and not me :\n  for e in xs :\n    c |= id = e\n  c = id in xs\ntake every"
         self.check([built(text, ONE)], (3,), (None,), "xs", [0, 1, 1])
