@@ -38,7 +38,7 @@ class Step:
         self.has_guard = False
         self.variable = None
         # The list of a `for`.
-        self.index = None
+        self.list_at = None
         self.blocks = []
 
 
@@ -154,7 +154,7 @@ class Draft:
         cursor.step()
         index, inner = read_walk(cursor, self._around[-1].scope, True)
         step = self._add("for", line)
-        step.index = index
+        step.list_at = index
         self._begin(step, "for", inner)
 
     def _read_ending(self, cursor, line):

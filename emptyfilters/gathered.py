@@ -105,7 +105,7 @@ class Ask:
     def __init__(self, kind, index, node, around, is_outer):
         # `for`, or the kind of its node; the node of a `for` is its step.
         self.kind = kind
-        self.index = index
+        self.list_at = index
         self.node = node
         # The list of the walk around it, or None.
         self.around = around

@@ -49,7 +49,7 @@ def check_bounds(draft):
 def facts_of(step):
     """The facts of a step."""
     if step.kind == "for":
-        return (step.index, step.blocks[0].variable)
+        return (step.list_at, step.blocks[0].variable)
     if step.kind == "take":
         return (step.has_guard,)
     return () if step.variable is None else (step.has_guard, step.variable)

@@ -124,7 +124,7 @@ class Ways:
 
     def _probes(self, index, is_outer, sequences):
         """The probes of the asks of a list that have asks inside, or of those that have none."""
-        asks = [ask for ask in self._gathered.asks if ask.index == index and ask.is_outer == is_outer]
+        asks = [ask for ask in self._gathered.asks if ask.list_at == index and ask.is_outer == is_outer]
         return [
             Probe(ask, scene, start)
             for ask in asks for scene in self._scenes(ask, sequences) for start in starts(ask)
@@ -134,7 +134,7 @@ class Ways:
         """A scene for each integer as the element around an ask, or for each sequence as the other list."""
         lists = [() for _ in self._integers]
         if ask.is_outer:
-            other = 1 - ask.index
+            other = 1 - ask.list_at
             return [
                 Scene(self._row, self._options, [*lists[:other], sequence, *lists[other + 1:]])
                 for sequence in sequences[other]
